@@ -1,0 +1,1 @@
+"""Mostpulled: dials that move in groups, by the greatest gain."""
