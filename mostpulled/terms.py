@@ -22,6 +22,14 @@ def ends_of(term):
     return term[at:at + 2]
 
 
+def nodes_of(term, size):
+    """Return (dial, other) of the term, with the size in the place of a dial that it does not have.
+
+    So no dial counts as one more node, behind all dials, whose setting is always 0.
+    """
+    return (term[1], term[2] if has_other(term) else size)
+
+
 def argument(term, standing):
     """Return the argument of the term at the standing."""
     if has_other(term):
@@ -44,6 +52,20 @@ def fitting(term, argument):
     if argument > high:
         return (down, down)
     return (down if argument == high else 0, up if argument == low else 0)
+
+
+def fitted(term, pull):
+    """Return (least, greatest) of the arguments that a pull fits, None for an end that does not exist.
+
+    The pull of a wish or tie is at most its force, up or down.
+    """
+    low, high = ends_of(term)
+    if pull == 0:
+        return (low, high)
+    end = low if pull > 0 else high
+    if not has_force(term) or abs(pull) < term[-1]:
+        return (end, end)
+    return (None, end) if pull > 0 else (end, None)
 
 
 def mirrored(term):

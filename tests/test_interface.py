@@ -3,7 +3,7 @@
 import inspect
 import unittest
 
-from mostpulled import errors, kinds, terms
+from mostpulled import balance, beats, boards, errors, gains, kinds, least, plans, starts, steps, terms
 
 FUNCTIONS = {
     kinds: {
@@ -15,10 +15,37 @@ FUNCTIONS = {
         "argument": ["term", "standing"], "distance": ["term", "argument"], "fitting": ["term", "argument"],
         "mirrored": ["term"], "moved": ["term", "by"],
     },
+    gains: {"gain": ["board", "standing", "way", "group"]},
+    steps: {"best_step": ["board", "standing"], "best_steps": ["board", "standing"]},
+    balance: {
+        "is_balanced": ["board", "thing"], "are_pulls": ["board", "standing", "thing"], "worth": ["board", "pulls"],
+        "pulls": ["board", "standing"],
+    },
+    beats: {
+        "beat": ["board", "standing"], "runs": ["board", "standing"], "run": ["board", "standing", "beats"],
+        "rest": ["board", "standing"], "trace": ["board", "standing", "limit"],
+    },
+    plans: {
+        "apart": ["one", "other"], "exchange": ["one", "other", "numbers"], "follow": ["board", "standing", "plan"],
+        "shortest": ["board", "standing", "other"], "to_best": ["board", "standing"],
+    },
+    starts: {"some": ["board"], "is_never": ["board", "thing"]},
+    least: {
+        "strain": ["board"], "is_best": ["board", "standing"], "paper": ["board"], "dial_range": ["board", "dial"],
+        "gap_range": ["board", "dial", "other"], "bounds": ["board"], "chain": ["board", "dial", "other"],
+        "is_chain": ["board", "dial", "other", "thing"],
+    },
+}
+METHODS = {
+    boards.Board: {
+        "__init__": ["size", "terms"], "terms": [], "left": ["standing"], "strain": ["standing"], "also": ["term"],
+        "without": ["at"], "moved": ["at", "by"], "mirrored": [], "__len__": [], "__eq__": ["other"], "__repr__": [],
+    },
 }
 CLASSES = {
     errors: ["PullError", "Wrong", "NotAllowed", "NoneAllowed", "BadStep", "TooMany", "HasStop", "NotRest", "NotWish",
              "TooFar", "NoDeed", "Taken", "Unknown", "Broken", "Nothing", "NoText", "NoCommand"],
+    boards: ["Board"],
 }
 
 
@@ -39,6 +66,23 @@ class Interface(unittest.TestCase):
                     made = getattr(module, name)
                     self.assertTrue(inspect.isclass(made))
                     self.assertEqual(made.__module__, module.__name__)
+
+    def test_methods_stand_in_the_class_itself(self):
+        for made, rows in METHODS.items():
+            for name, arguments in rows.items():
+                with self.subTest(f"{made.__name__}.{name}"):
+                    method = vars(made)[name]
+                    self.assertTrue(inspect.isfunction(method))
+                    self.assertEqual(list(inspect.signature(method).parameters)[1:], arguments)
+
+    def test_property_and_class_method_of_board(self):
+        self.assertIsInstance(vars(boards.Board)["size"], property)
+        self.assertIsInstance(vars(boards.Board)["free"], classmethod)
+        self.assertEqual(list(inspect.signature(boards.Board.free).parameters), ["size"])
+
+    def test_runs_is_a_generator(self):
+        self.assertTrue(inspect.isgeneratorfunction(beats.runs))
+        self.assertTrue(inspect.isgenerator(beats.runs(boards.Board.free(1), (0,))))
 
 
 if __name__ == "__main__":

@@ -3,12 +3,11 @@
 import unittest
 
 from mostpulled.kinds import is_term
-from mostpulled.terms import argument, distance, fitting, mirrored, moved
+from mostpulled.terms import argument, distance, fitted, fitting, mirrored, moved, nodes_of
+from things import FORCED, MOST, ends, fits
 
-MOST = 10 ** 18
 NARROW = [(0, 0), (-2, -2), (3, 3), (0, 1), (-1, 0), (-1, 1), (0, 2), (2, 5), (-7, -4), (-3, 4)]
 WIDE = [(MOST, MOST), (-MOST, -MOST), (MOST - 1, MOST), (-MOST, 1 - MOST), (MOST - 4, MOST - 1), (-MOST, MOST)]
-FORCED = ("wish", "tie")
 
 
 def terms_of(low, high, force=3):
@@ -17,41 +16,11 @@ def terms_of(low, high, force=3):
             ("bar", 0, 2, low, high)]
 
 
-def ends(term):
-    """Return the ends of a term, counted from the back of the tuple."""
-    return term[-3:-1] if term[0] in FORCED else term[-2:]
-
-
 def arguments_near(low, high):
     """Return arguments around both ends, in between and far away."""
     middle = (low + high) // 2
     near = [end + by for end in (low, high, middle) for by in range(-4, 5)]
     return sorted({*near, 0, MOST, -MOST, 2 * MOST, -2 * MOST, 10 ** 39, -10 ** 39})
-
-
-def fits(term, pull, asked):
-    """Return whether a pull fits an argument, by the words of point 2."""
-    low, high = ends(term)
-    if term[0] in FORCED:
-        force = term[-1]
-        if asked < low:
-            return pull == force
-        if asked > high:
-            return pull == -force
-        if low == high:
-            return -force <= pull <= force
-        if asked == low:
-            return 0 <= pull <= force
-        if asked == high:
-            return -force <= pull <= 0
-        return pull == 0
-    if low == high:
-        return True
-    if asked == low:
-        return pull >= 0
-    if asked == high:
-        return pull <= 0
-    return pull == 0
 
 
 class Examples(unittest.TestCase):
@@ -179,6 +148,25 @@ class Fitting(unittest.TestCase):
                 with self.subTest(term, asked=asked):
                     self.assertIsInstance(pulls, tuple)
                     self.assertEqual(len(pulls), 2)
+
+
+class Fitted(unittest.TestCase):
+    def test_just_the_arguments_whose_pulls_are_these(self):
+        for low, high in NARROW + WIDE:
+            for term in terms_of(low, high, 2):
+                for pull in range(-2, 3):
+                    least, greatest = fitted(term, pull)
+                    for asked in arguments_near(low, high):
+                        allowed = term[0] in FORCED or low <= asked <= high
+                        within = (least is None or least <= asked) and (greatest is None or asked <= greatest)
+                        with self.subTest(term, asked=asked, pull=pull):
+                            self.assertEqual(within, allowed and fits(term, pull, asked))
+
+
+class Nodes(unittest.TestCase):
+    def test_the_size_stands_for_no_dial(self):
+        found = [nodes_of(term, 5) for term in terms_of(2, 4)]
+        self.assertEqual(found, [(1, 5), (2, 0), (0, 5), (0, 2)])
 
 
 class Changed(unittest.TestCase):
