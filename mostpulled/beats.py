@@ -1,6 +1,6 @@
 """Beats: one after another, in runs of one group, and to rest."""
 
-from mostpulled.gains import check_allowed, stepped
+from mostpulled.gains import stepped
 from mostpulled.steps import best_step
 from mostpulled.terms import argument, ends_of, nodes_of
 
@@ -30,7 +30,6 @@ def runs(board, standing):
 
 def run(board, standing, beats):
     """Return (done, standing) after so many beats, or after all to rest if there are fewer."""
-    check_allowed(board, standing)
     done, place = 0, standing
     for way, group, times in runs(board, standing):
         more = min(times, beats - done)
@@ -42,7 +41,6 @@ def run(board, standing, beats):
 
 def rest(board, standing):
     """Return (beats, standing): the number of all beats to rest, and the standing there."""
-    check_allowed(board, standing)
     done, place = 0, standing
     for way, group, times in runs(board, standing):
         done, place = done + times, stepped(place, way, group, times)
@@ -51,7 +49,6 @@ def rest(board, standing):
 
 def trace(board, standing, limit):
     """Return the list of the gains of the first beats, as many as the limit or as there are."""
-    check_allowed(board, standing)
     gains = []
     for _, _, gained, times in _stretches(board, standing):
         gains.extend([gained] * min(times, limit - len(gains)))
@@ -61,37 +58,28 @@ def trace(board, standing, limit):
 
 
 def _stretches(board, standing):
-    """Generate (way, group, gain, times) for beats in a row that find every term in the same state.
+    """Generate (way, group, gain, times) for beats in a row that do the same step with the same gain.
 
-    What a term does to a beat depends on its state only, so these beats do the same step with the same gain.
+    Gains never rise, so a step that was a beat is a best one as long as its own gain stays. It is the beat then, too:
+    with one way and gain the group never shrinks, and up does not follow down. So only its own gain is looked at.
     """
     place = standing
     step = best_step(board, place)
     while step is not None:
         way, group, gained = step
         times = _times(board, place, way, group)
-        yield (way, list(group), gained, times)
+        yield (way, group, gained, times)
         place = stepped(place, way, group, times)
         step = best_step(board, place)
 
 
 def _times(board, standing, way, group):
-    """Return after how many steps a term is first in another state, at a step that gains."""
+    """Return how many steps there are, at a step that gains, until one of the arguments that move is at an end."""
     times = []
     for term in board.terms():
         dial, other = nodes_of(term, board.size)
         if (dial in group) != (other in group):
             ahead = way if dial in group else -way
-            times.extend(_changes(term, argument(term, standing), ahead))
+            here = argument(term, standing)
+            times.extend([ahead * (end - here) for end in ends_of(term) if ahead * (end - here) > 0])
     return min(times)
-
-
-def _changes(term, here, way):
-    """Return after how many moves of the argument, all up or all down, the term gets into other states.
-
-    The states are below the range, at its low end, strictly inside, at its high end, and above.
-    """
-    low, high = ends_of(term)
-    if way == 1:
-        return [place - here for place in (low, low + 1, high, high + 1) if place > here]
-    return [here - place for place in (high, high - 1, low, low - 1) if place < here]

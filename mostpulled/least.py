@@ -63,7 +63,7 @@ def is_chain(board, dial, other, thing):
     best = _best(board)
     start = board.size if other is None else other
     far, _ = _reach(_best_links(board, pulls(board, best)), board.size, start)
-    if far[dial] is None or not isinstance(thing, tuple) or len(thing) != 3:
+    if not isinstance(thing, tuple) or len(thing) != 3:
         return False
     greatest, held, links = thing
     if not is_integer(greatest) or greatest != far[dial]:
@@ -113,7 +113,7 @@ def _standing(settings):
 
 def _length(best_links, thing, start, end):
     """Return the sum of the bounds of a list of links from one node to another one, None if thing is none."""
-    if not isinstance(thing, list) or not all([_is_link(link) for link in thing]) or len(thing) == 0:
+    if not isinstance(thing, list) or not all([_is_link(link) for link in thing]):
         return None
     table = {(index, way): (first, second, bound) for first, second, bound, index, way in best_links}
     node, total = start, 0
