@@ -12,13 +12,11 @@ from mostpulled.terms import argument, ends_of, fitting, has_force, nodes_of
 def is_balanced(board, thing):
     """Return whether thing, any value, is a list of balanced pulls of the board."""
     terms = board.terms()
-    if not isinstance(thing, list) or len(thing) != len(terms):
-        return False
-    if not all([is_integer(pull) for pull in thing]):
+    if not _are_integers(thing, len(terms)):
         return False
     if any([has_force(term) and abs(pull) > term[-1] for term, pull in zip(terms, thing)]):
         return False
-    return all([surplus == 0 for surplus in _surpluses(terms, thing, board.size)])
+    return all([surplus == 0 for surplus in surpluses(terms, thing, board.size)])
 
 
 def worth(board, pulls):
@@ -36,22 +34,43 @@ def pulls(board, standing):
     terms = board.terms()
     ranges = [fitting(term, argument(term, standing)) for term in terms]
     found = [_nearest(least, greatest) for least, greatest in ranges]
-    surpluses = _surpluses(terms, found, board.size)
-    while max(surpluses) > 0:
-        path = _path(_moves(terms, found, ranges, board.size), surpluses)
+    over = surpluses(terms, found, board.size)
+    while max(over) > 0:
+        path = _path(_moves(terms, found, ranges, board.size), over)
         if path is None:
             return None
-        found = _pushed(found, path, surpluses)
-        surpluses = _surpluses(terms, found, board.size)
+        found = _pushed(found, path, over)
+        over = surpluses(terms, found, board.size)
     return found
 
 
 def are_pulls(board, standing, thing):
     """Return whether thing, any value, is a list of balanced pulls that fit all arguments at the standing."""
     check_allowed(board, standing)
-    if not is_balanced(board, thing):
+    return is_balanced(board, thing) and are_fitting(board, standing, thing)
+
+
+def are_fitting(board, standing, thing):
+    """Return whether thing, any value, is a list of pulls, balanced or not, that fit all arguments at the standing."""
+    terms = board.terms()
+    if not _are_integers(thing, len(terms)):
         return False
-    return all([_fits(pull, fitting(term, argument(term, standing))) for term, pull in zip(board.terms(), thing)])
+    return all([_fits(pull, fitting(term, argument(term, standing))) for term, pull in zip(terms, thing)])
+
+
+def surpluses(terms, pulls, size):
+    """Return the list of how much more arrives at each node than leaves it."""
+    found = [0] * (size + 1)
+    for term, pull in zip(terms, pulls):
+        dial, other = nodes_of(term, size)
+        found[dial] += pull
+        found[other] -= pull
+    return found
+
+
+def _are_integers(thing, many):
+    """Return whether thing is a list of so many integers."""
+    return isinstance(thing, list) and len(thing) == many and all([is_integer(pull) for pull in thing])
 
 
 def _fits(pull, ends):
@@ -69,16 +88,6 @@ def _nearest(least, greatest):
     return 0
 
 
-def _surpluses(terms, pulls, size):
-    """Return the list of how much more arrives at each node than leaves it."""
-    surpluses = [0] * (size + 1)
-    for term, pull in zip(terms, pulls):
-        dial, other = nodes_of(term, size)
-        surpluses[dial] += pull
-        surpluses[other] -= pull
-    return surpluses
-
-
 def _moves(terms, pulls, ranges, size):
     """Return the links (start, end, index, by, room) along which changes by 1 or -1 of pulls take a surplus.
 
@@ -94,13 +103,13 @@ def _moves(terms, pulls, ranges, size):
     return moves
 
 
-def _path(moves, surpluses):
+def _path(moves, over):
     """Return a shortest list of links from a node with a surplus to one with a lack, None if there is none."""
-    came = {node: None for node, surplus in enumerate(surpluses) if surplus > 0}
+    came = {node: None for node, surplus in enumerate(over) if surplus > 0}
     queue = list(came)
     while queue:
         node = queue.pop(0)
-        if surpluses[node] < 0:
+        if over[node] < 0:
             return trail(came, node)
         for move in moves:
             if move[0] == node and move[1] not in came:
@@ -109,9 +118,9 @@ def _path(moves, surpluses):
     return None
 
 
-def _pushed(pulls, path, surpluses):
+def _pushed(pulls, path, over):
     """Return the pulls after as much surplus as possible went along the path."""
-    amount = min(surpluses[path[0][0]], -surpluses[path[-1][1]])
+    amount = min(over[path[0][0]], -over[path[-1][1]])
     amount = min([amount] + [room for _, _, _, _, room in path if room is not None])
     pushed = list(pulls)
     for _, _, index, by, _ in path:

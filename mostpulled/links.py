@@ -39,6 +39,19 @@ def spread(links, far):
     return (far, came, last)
 
 
+def reach(links, size, start):
+    """Return (far, came): how far each node gets above the start at most, None without end, and the links there."""
+    far, came, _ = spread(links, [0 if node == start else None for node in range(size + 1)])
+    return (far, came)
+
+
+def range_of(links, size, node, other):
+    """Return (least, greatest) of the setting of a node less that of another one; None without end."""
+    above, _ = reach(links, size, other)
+    below, _ = reach(links, size, node)
+    return (None if below[other] is None else -below[other], above[node])
+
+
 def trail(came, node):
     """Return the list of the links by which a node was reached, the first one first."""
     links = []

@@ -145,19 +145,19 @@ class Runs(unittest.TestCase):
             self.assertEqual(far(standing, place), done)
 
     def test_ends_far_apart(self):
-        for size, terms, standing in boards_made(100, 160, spans=(10 ** 5, 10 ** 16, 10 ** 17, MOST // 2)):
+        for size, terms, standing in boards_made(100, 96, spans=(10 ** 5, 10 ** 16, 10 ** 17, MOST // 2)):
             found = self.check(size, terms, standing)
             self.assertLess(len(found), 300)
             self.check_parts(size, terms, standing)
 
     def test_near_the_greatest_values(self):
-        for size, terms, standing in boards_made(101, 80, spans=(2, 9, 1000)):
+        for size, terms, standing in boards_made(101, 48, spans=(2, 9, 1000)):
             self.check(size, terms, standing)
             self.check_parts(size, terms, standing)
 
     def test_eight_dials_with_ends_as_far_apart_as_can_be(self):
         chance = random.Random(102)
-        for _ in range(30):
+        for _ in range(12):
             terms = []
             for _ in range(24):
                 low = chance.choice([-MOST, MOST, chance.randint(-MOST, MOST)])
@@ -171,7 +171,7 @@ class Runs(unittest.TestCase):
 
     def test_from_outside_of_all_values(self):
         chance = random.Random(103)
-        for at in range(24):
+        for at in range(16):
             size = at % 8 + 1
             terms, _ = terms_made(chance, size, 24, 100, words=FORCED)
             standing = tuple(chance.choice([-1, 1]) * chance.randint(10 ** 38, 10 ** 39) for _ in range(size))

@@ -3,7 +3,7 @@
 import random
 import unittest
 
-from mostpulled import balance, beats, gains, plans, steps
+from mostpulled import balance, beats, gains, holding, moving, plans, steps
 from mostpulled.boards import Board
 from mostpulled.errors import NotAllowed
 from mostpulled.gains import gain
@@ -75,6 +75,11 @@ class NotAllowedStandings(unittest.TestCase):
             lambda: plans.follow(board, standing, [(1, [0], 1)] * 401), lambda: plans.to_best(board, standing),
             lambda: plans.shortest(board, standing, standing), lambda: plans.shortest(board, standing, inner),
             lambda: plans.shortest(board, inner, standing),
+            lambda: holding.are_held(board, standing, 0, 0, [0] * len(board)),
+            *[lambda thing=thing: holding.are_held(board, standing, 0, 1, thing) for thing in odd_things()],
+            *[lambda at=at: moving.after(board, standing, at, 1) for at in range(len(board))],
+            lambda: moving.settled(board, standing, []),
+            *[lambda at=at: moving.settled(board, standing, [(at, 1)]) for at in range(len(board))],
         ]
 
     def check(self, at, call):

@@ -3,7 +3,9 @@
 import inspect
 import unittest
 
-from mostpulled import balance, beats, boards, errors, gains, kinds, least, plans, starts, steps, terms
+from mostpulled import (
+    balance, beats, boards, comparing, errors, gains, holding, kinds, least, listing, moving, plans, starts, steps, terms,
+)
 
 FUNCTIONS = {
     kinds: {
@@ -35,6 +37,13 @@ FUNCTIONS = {
         "gap_range": ["board", "dial", "other"], "bounds": ["board"], "chain": ["board", "dial", "other"],
         "is_chain": ["board", "dial", "other", "thing"],
     },
+    listing: {"first_best": ["board", "standing"], "all_best": ["board", "limit"]},
+    holding: {
+        "least_at": ["board", "dial", "setting"], "forces": ["board", "dial", "setting"],
+        "held": ["board", "dial", "force"], "are_held": ["board", "standing", "dial", "force", "thing"],
+    },
+    moving: {"after": ["board", "standing", "at", "by"], "settled": ["board", "standing", "moves"]},
+    comparing: {"kinks": ["board"], "unlike": ["one", "other"]},
 }
 METHODS = {
     boards.Board: {

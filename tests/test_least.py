@@ -9,8 +9,8 @@ from mostpulled.boards import Board
 from mostpulled.errors import NoneAllowed
 from mostpulled.least import bounds, chain, dial_range, gap_range, is_best, is_chain, paper, strain
 from things import (
-    FORCED, MOST, WORDS, all_fit, balanced, best_in_box, best_of_all, box, ends, fits, is_whole, left, odd_things,
-    standings_near, terms_made, worth,
+    FORCED, MOST, all_fit, balanced, best_in_box, best_of_all, box, ends, fits, great_boards, is_whole, left, odd_things,
+    small_boards, standings_near, worth,
 )
 from things import strain as plain_strain
 
@@ -30,34 +30,6 @@ class Examples(unittest.TestCase):
         self.assertIs(is_chain(BOARD, 0, None, (10, [-1, 1, 1], [(1, 1), (2, 1)])), True)
         self.assertIs(is_chain(BOARD, 0, None, chain(BOARD, 0, None)), True)
         self.assertEqual(chain(BOARD, 0, None)[0], 10)
-
-
-def small_boards(seed, many):
-    """Return (size, terms) of small boards made at will, with the standings of a box that is wide enough for them."""
-    chance = random.Random(seed)
-    made = []
-    for at in range(many):
-        size = at % 3 + 1
-        terms = []
-        while len(terms) < at % 7 + 1:
-            word = chance.choice(WORDS if size > 1 else ("wish", "stop"))
-            low, high = sorted([chance.randint(-2, 2), chance.randint(-2, 2)])
-            dials = chance.sample(range(size), 2 if word in ("tie", "bar") else 1)
-            terms.append((word, *dials, low, high) + ((chance.randint(1, 3),) if word in FORCED else ()))
-        made.append((size, terms))
-    return made
-
-
-def great_boards(seed, many):
-    """Return (size, terms, allowed standing) of boards of 1 to 8 dials made at will."""
-    chance = random.Random(seed)
-    made = []
-    for at in range(many):
-        size, span = at % 8 + 1, chance.choice([1, 3, 9, 10 ** 17])
-        middle = chance.choice([0, 0, MOST - span, span - MOST])
-        words = chance.choice([WORDS, WORDS + FORCED * 3, FORCED, ("tie", "bar"), ("stop", "bar", "tie")])
-        made.append((size, *terms_made(chance, size, chance.choice([4, 10, 24, 24]), span, middle, words)))
-    return made
 
 
 class Least(unittest.TestCase):
@@ -214,7 +186,7 @@ class Ranges(unittest.TestCase):
                 pass
 
     def test_great_boards(self):
-        for size, terms, _ in great_boards(75, 100):
+        for size, terms, _ in great_boards(75, 56):
             self.check_great(size, terms)
 
     def test_great_ends(self):

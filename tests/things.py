@@ -3,6 +3,7 @@
 The definitions look at everything there is, one by one, and use nothing of the package.
 """
 
+import random
 from itertools import product
 
 MOST = 10 ** 18
@@ -95,6 +96,50 @@ def standings_near(chance, terms, inner, span, many):
         if left(terms, standing) is None:
             found.append(standing)
     return found
+
+
+def small_boards(seed, many, sizes=3, words=WORDS):
+    """Return (size, terms) of small boards of 1 dial on made at will, which may contradict themselves."""
+    chance = random.Random(seed)
+    made = []
+    for at in range(many):
+        size = at % sizes + 1
+        terms = []
+        while len(terms) < at % 7 + 1:
+            word = chance.choice(words if size > 1 else [word for word in words if word in ("wish", "stop")])
+            low, high = sorted([chance.randint(-2, 2), chance.randint(-2, 2)])
+            dials = chance.sample(range(size), 2 if word in ("tie", "bar") else 1)
+            terms.append((word, *dials, low, high) + ((chance.randint(1, 3),) if word in FORCED else ()))
+        made.append((size, terms))
+    return made
+
+
+def great_boards(seed, many):
+    """Return (size, terms, allowed standing) of boards of 1 to 8 dials made at will."""
+    chance = random.Random(seed)
+    made = []
+    for at in range(many):
+        size, span = at % 8 + 1, chance.choice([1, 3, 9, 10 ** 17])
+        middle = chance.choice([0, 0, MOST - span, span - MOST])
+        words = chance.choice([WORDS, WORDS + FORCED * 3, FORCED, ("tie", "bar"), ("stop", "bar", "tie")])
+        made.append((size, *terms_made(chance, size, chance.choice([4, 10, 24, 24]), span, middle, words)))
+    return made
+
+
+def put_off(terms, offsets):
+    """Return the terms with the ranges where they are if each dial is moved by its offset."""
+    found = []
+    for term in terms:
+        by = difference(dials_of(term), offsets)
+        low, high = ends(term)
+        found.append((term[0], *dials_of(term), low + by, high + by) + (term[-1:] if term[0] in FORCED else ()))
+    return found
+
+
+def great_offsets(chance, size):
+    """Return offsets near the greatest values by which small terms may be put off."""
+    middle = chance.choice([-1, 1]) * (MOST - 3)
+    return tuple(middle + chance.choice([0, 0, -1, 1, -middle, -middle // 2]) for _ in range(size))
 
 
 def dials_of(term):
