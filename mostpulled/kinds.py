@@ -1,12 +1,13 @@
-"""Which things are integers, values, forces and names, and terms, standings, groups and steps of a board.
+"""Which things are integers, values, forces and names, and terms, standings, groups, steps and deeds of a board.
 
 Each function takes any value as thing, so it asks for the kind of a thing before it looks inside.
 """
 
 from mostpulled.terms import dials_of, ends_of, has_force
 
-# How many items the tuple of a term has, by its word.
-LENGTHS = {"wish": 5, "tie": 6, "stop": 4, "bar": 5}
+# How many items the tuple of a term has, by its word, and that of a deed.
+TERMS = {"wish": 5, "tie": 6, "stop": 4, "bar": 5}
+DEEDS = {"add": 3, "remove": 2, "move": 3, "turn": 3, "beat": 2}
 
 
 def is_integer(thing):
@@ -38,7 +39,8 @@ def is_dial(thing, size):
 
 def is_term(thing, size):
     """Return whether thing is a term of a board of this size."""
-    if not _has_parts(thing):
+    word = _word(thing)
+    if word not in TERMS or len(thing) != TERMS[word]:
         return False
     if has_force(thing) and not is_force(thing[-1]):
         return False
@@ -69,11 +71,27 @@ def is_step(thing, size):
     return is_integer(way) and way in (1, -1) and is_group(group, size)
 
 
-def _has_parts(thing):
-    """Return whether thing is a tuple of the word of a term and as many parts as this word needs."""
-    if not isinstance(thing, tuple) or len(thing) == 0 or not isinstance(thing[0], str):
+def is_deed(thing, size):
+    """Return whether thing is a deed of a book of this size."""
+    word = _word(thing)
+    if word not in DEEDS or len(thing) != DEEDS[word]:
         return False
-    return thing[0] in LENGTHS and len(thing) == LENGTHS[thing[0]]
+    if word == "turn":
+        return is_dial(thing[1], size) and is_value(thing[2])
+    if word == "beat":
+        return is_integer(thing[1]) and 0 <= thing[1] <= 10 ** 21
+    if not is_name(thing[1]):
+        return False
+    if word == "add":
+        return is_term(thing[2], size)
+    return word == "remove" or is_integer(thing[2])
+
+
+def _word(thing):
+    """Return the string that a tuple begins with, an empty one if thing is no such tuple."""
+    if not isinstance(thing, tuple) or len(thing) == 0 or not isinstance(thing[0], str):
+        return ""
+    return thing[0]
 
 
 def _are_dials(parts, size):

@@ -4,7 +4,8 @@ import inspect
 import unittest
 
 from mostpulled import (
-    balance, beats, boards, comparing, errors, gains, holding, kinds, least, listing, moving, plans, starts, steps, terms,
+    alone, balance, beats, boards, books, comparing, desk, errors, gains, holding, kinds, least, listing, moving, notation,
+    plans, starts, steps, terms,
 )
 
 FUNCTIONS = {
@@ -44,17 +45,32 @@ FUNCTIONS = {
     },
     moving: {"after": ["board", "standing", "at", "by"], "settled": ["board", "standing", "moves"]},
     comparing: {"kinks": ["board"], "unlike": ["one", "other"]},
+    alone: {"corners": ["board", "dial"]},
+    notation: {
+        "show_term": ["term"], "show_standing": ["standing"], "show_deed": ["deed"], "show_log": ["book"],
+        "read_term": ["text", "size"], "read_standing": ["text", "size"], "read_deed": ["text", "size"],
+        "read_log": ["text", "size"],
+    },
+    desk: {"answered": ["size", "text", "line"]},
 }
 METHODS = {
     boards.Board: {
         "__init__": ["size", "terms"], "terms": [], "left": ["standing"], "strain": ["standing"], "also": ["term"],
         "without": ["at"], "moved": ["at", "by"], "mirrored": [], "__len__": [], "__eq__": ["other"], "__repr__": [],
     },
+    books.Book: {
+        "__init__": ["size"], "do": ["deed"], "back": [], "again": [], "insert": ["at", "deed"], "log": [], "terms": [],
+        "board": [], "at_rest": [], "left": [], "done": [], "since": [], "past": ["count"], "copied": [], "__len__": [],
+        "__eq__": ["other"],
+    },
+    desk.Desk: {"__init__": ["size"], "execute": ["line"]},
 }
 CLASSES = {
     errors: ["PullError", "Wrong", "NotAllowed", "NoneAllowed", "BadStep", "TooMany", "HasStop", "NotRest", "NotWish",
              "TooFar", "NoDeed", "Taken", "Unknown", "Broken", "Nothing", "NoText", "NoCommand"],
     boards: ["Board"],
+    books: ["Book"],
+    desk: ["Desk"],
 }
 
 
@@ -88,6 +104,18 @@ class Interface(unittest.TestCase):
         self.assertIsInstance(vars(boards.Board)["size"], property)
         self.assertIsInstance(vars(boards.Board)["free"], classmethod)
         self.assertEqual(list(inspect.signature(boards.Board.free).parameters), ["size"])
+
+    def test_properties_of_book(self):
+        for name in ("size", "standing"):
+            self.assertIsInstance(vars(books.Book)[name], property)
+
+    def test_arguments_by_keyword(self):
+        for module, rows in FUNCTIONS.items():
+            for name in rows:
+                for argument in inspect.signature(getattr(module, name)).parameters.values():
+                    by_keyword = argument.kind == inspect.Parameter.KEYWORD_ONLY
+                    self.assertEqual(by_keyword, (name, argument.name) == ("all_best", "limit"))
+                    self.assertEqual(argument.default, 400 if by_keyword else inspect.Parameter.empty)
 
     def test_runs_is_a_generator(self):
         self.assertTrue(inspect.isgeneratorfunction(beats.runs))

@@ -42,6 +42,15 @@ class Stubborn:
     __hash__ = None
 
 
+def raised(call):
+    """Return (class, *fields) of the error that a call raises, None if it raises none; other errors go on."""
+    try:
+        call()
+    except ValueError as error:
+        return (type(error), *vars(error).values())
+    return None
+
+
 def nested(depth, outer, inner):
     """Return inner in as many containers, made by outer from a list."""
     thing = inner
