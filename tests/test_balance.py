@@ -29,7 +29,8 @@ class Examples(unittest.TestCase):
 def shaken(chance, found):
     """Return changed copies of a list of pulls, most of them not balanced."""
     changed = [list(found), found[:-1], found + [0], [*found, None], found[::-1], [-pull for pull in found],
-               [2 * pull for pull in found], [0] * len(found), tuple(found), [found], {at: 0 for at in range(len(found))}]
+               [2 * pull for pull in found], [0] * len(found), tuple(found), [found],
+               {at: 0 for at in range(len(found))}]
     for at in range(len(found)):
         for thing in [found[at] + 1, found[at] - 1, -found[at], found[at] + chance.randint(-60, 60), None, True, False,
                       str(found[at]), [found[at]], (found[at],), 10 ** 39, -31, 31]:

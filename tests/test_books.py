@@ -126,7 +126,8 @@ def drawn_deed(chance, size):
     name = chance.choice(["a", "b", "c", "zz", "abcdefgh"])
     return chance.choice([
         ("add", name, drawn_term(chance, size)), ("add", name, drawn_term(chance, size)), ("remove", name),
-        ("move", name, chance.choice([0, 1, -2, 5, 3 * MOST, -3 * MOST, 10 ** 39])), ("turn", chance.randrange(size), chance.randint(-4, 4)),
+        ("move", name, chance.choice([0, 1, -2, 5, 3 * MOST, -3 * MOST, 10 ** 39])),
+        ("turn", chance.randrange(size), chance.randint(-4, 4)),
         ("beat", chance.choice([0, 1, 2, 9, 10 ** 21])), ("turn", chance.randrange(size), chance.randint(-9, 9))])
 
 
@@ -240,8 +241,10 @@ class Do(unittest.TestCase):
     def test_each_deed(self):
         book = self.book
         self.assertEqual([book.log(), book.standing],
-                         [[("add", "m", ("wish", 0, 3, 5, 2)), ("add", "b", ("stop", 1, -4, 4)), ("turn", 1, 2)], (0, 2)])
-        self.assertEqual([book.do(("beat", 0)), book.do(("beat", 2)), book.do(("beat", 10 ** 21)), book.do(("beat", 1))],
+                         [[("add", "m", ("wish", 0, 3, 5, 2)), ("add", "b", ("stop", 1, -4, 4)), ("turn", 1, 2)],
+                          (0, 2)])
+        self.assertEqual([book.do(("beat", 0)), book.do(("beat", 2)), book.do(("beat", 10 ** 21)),
+                          book.do(("beat", 1))],
                          [0, 2, 1, 0])
         self.assertEqual([book.standing, book.done(), book.at_rest(), book.left()], [(3, 2), 3, True, 0])
         self.assertEqual([book.do(("add", "a", ("bar", 1, 0, -1, 4))), book.do(("move", "b", -1)),
@@ -309,22 +312,28 @@ class Do(unittest.TestCase):
         """Return new values that are no deeds."""
         wish = ("wish", 0, 0, 0, 1)
         return odd_things() + [
-            ("add", "a", ("wish", 2, 0, 0, 1)), ("add", "a", ("tie", 0, 2, 0, 0, 1)), ("add", "a", ("tie", 0, 0, 0, 0, 1)),
+            ("add", "a", ("wish", 2, 0, 0, 1)), ("add", "a", ("tie", 0, 2, 0, 0, 1)),
+            ("add", "a", ("tie", 0, 0, 0, 0, 1)),
             ("add", "a", ("wish", 0, 1, 0, 1)), ("add", "a", ("wish", 0, 0, 0, 31)), ("add", "a", ("wish", 0, 0, 0, 0)),
             ("add", "a", ("stop", 0, 0, MOST + 1)), ("add", "a", ("stop", 0, 0, True)), ("add", "a", ("stop", 0, 0)),
             ("add", "a", ["wish", 0, 0, 0, 1]), ("add", "a", None), ("add", "a", "wish,0,0,0,1"), ("add", "a", ()),
-            ("add", "", wish), ("add", "A", wish), ("add", "abcdefghi", wish), ("add", "a1", wish), ("add", "a b", wish),
+            ("add", "", wish), ("add", "A", wish), ("add", "abcdefghi", wish), ("add", "a1", wish),
+            ("add", "a b", wish),
             ("add", "a\n", wish), ("add", None, wish), ("add", ["a"], wish), ("add", b"a", wish), ("add", 1, wish),
             ("add", "a"), ("add",), ("add", "a", wish, 0), ["add", "a", wish], ("add", wish, "a"), ("Add", "a", wish),
             ("remove", "M"), ("remove",), ("remove", "m", 0), ("remove", None), ("remove", ("m",)), ["remove", "m"],
             ("remove", "m" * 9), ("move", "m"), ("move", "m", None), ("move", "m", True), ("move", "m", False),
-            ("move", "m", "1"), ("move", "m", [1]), ("move", "m", 1, 1), ("move", "M", 1), ("move", 0, 1), ("move", 1, "m"),
-            ["move", "m", 1], ("turn", 2, 0), ("turn", -1, 0), ("turn", True, 0), ("turn", 0, True), ("turn", 0, MOST + 1),
+            ("move", "m", "1"), ("move", "m", [1]), ("move", "m", 1, 1), ("move", "M", 1), ("move", 0, 1),
+            ("move", 1, "m"),
+            ["move", "m", 1], ("turn", 2, 0), ("turn", -1, 0), ("turn", True, 0), ("turn", 0, True),
+            ("turn", 0, MOST + 1),
             ("turn", 0, -MOST - 1), ("turn", 0, None), ("turn", 0, "1"), ("turn", 0), ("turn", 0, 1, 1), ["turn", 0, 1],
             ("turn", "m", 1), ("turn", None, 1), ("turn", [0], 1), ("beat", -1), ("beat", 10 ** 21 + 1), ("beat", True),
-            ("beat", False), ("beat", None), ("beat", "4"), ("beat",), ("beat", 1, 1), ["beat", 1], ("beat", [1]), ("beat", ()),
+            ("beat", False), ("beat", None), ("beat", "4"), ("beat",), ("beat", 1, 1), ["beat", 1], ("beat", [1]),
+            ("beat", ()),
             ("beats", 1), ("back",), ("again",), ("insert", 0, ("beat", 1)), "beat 1", "add a wish,0,0,0,1", ("", 1),
-            (("beat", 1),), [("beat", 1)], {"beat": 1}, (None, "m"), ({}, "m"), (b"beat", 1), ("remove", {}), ("move", {}, 1),
+            (("beat", 1),), [("beat", 1)], {"beat": 1}, (None, "m"), ({}, "m"), (b"beat", 1), ("remove", {}),
+            ("move", {}, 1),
         ]
 
     def test_no_deed(self):
@@ -366,7 +375,8 @@ class BackAndAgain(unittest.TestCase):
         self.assertEqual([book.log(), book.standing], [[("turn", 0, 3)], (3,)])
 
     def test_many_of_both(self):
-        deeds = [("add", "a", ("wish", 0, 9, 9, 1)), ("turn", 0, 2), ("beat", 3), ("move", "a", -20), ("beat", 10 ** 21),
+        deeds = [("add", "a", ("wish", 0, 9, 9, 1)), ("turn", 0, 2), ("beat", 3), ("move", "a", -20),
+                 ("beat", 10 ** 21),
                  ("remove", "a"), ("turn", 0, 1)]
         standings = [(0,), (0,), (2,), (5,), (5,), (-11,), (-11,), (-10,)]
         book = Book(1)
@@ -401,12 +411,15 @@ class BackAndAgain(unittest.TestCase):
         book.back()
         for call, error in [
                 (lambda: book.do(("turn", 0, 10)), (NotAllowed, 0)), (lambda: book.do(None), (NoDeed,)),
-                (lambda: book.do(("remove", "b")), (Unknown, "b")), (lambda: book.insert(0, ("turn", 0, -1)), (Broken, 1)),
+                (lambda: book.do(("remove", "b")), (Unknown, "b")), (lambda: book.insert(0, ("turn", 0, -1)),
+                                                                     (Broken, 1)),
                 (lambda: book.insert(2, ("beat", 0)), (Wrong, 0)), (lambda: book.past(2), (Wrong, 0)),
-                (lambda: book.insert(1, None), (Broken, 1)), (lambda: book.do(("add", "a", ("stop", 0, 0, 1))), (Taken, "a"))]:
+                (lambda: book.insert(1, None), (Broken, 1)), (lambda: book.do(("add", "a", ("stop", 0, 0, 1))),
+                                                              (Taken, "a"))]:
             self.assertEqual(raised(call), error)
             self.assertEqual([len(book), book.copied().again()], [1, ("turn", 0, 5)])
-        [book.log(), book.terms(), book.board(), book.left(), book.done(), book.since(), book.past(1), len(book), book == book]
+        [book.log(), book.terms(), book.board(), book.left(), book.done(), book.since(), book.past(1), len(book),
+         book == book]
         self.assertEqual([book.again(), book.again(), book.standing], [("turn", 0, 5), ("turn", 0, 3), (8,)])
         self.assertEqual([raised(book.past(2).again), raised(book.past(3).again)], [(Nothing,)] * 2)
 
@@ -428,7 +441,8 @@ class Insert(unittest.TestCase):
             book = Book(2)
             for _ in range(many):
                 book.do(("turn", 0, 1))
-            for at in [True, False, -1, many + 1, many + 2, 10 ** 39, -10 ** 39, None, "0", [0], (0,), {}, *odd_things()]:
+            for at in [True, False, -1, many + 1, many + 2, 10 ** 39, -10 ** 39, None, "0", [0], (0,), {},
+                       *odd_things()]:
                 for deed in [("beat", 1), None, ("turn", 0, MOST)]:
                     self.assertEqual(raised(lambda: book.insert(at, deed)), (Wrong, 0))
             self.assertEqual(book.log(), [("turn", 0, 1)] * many)
@@ -455,7 +469,8 @@ class Insert(unittest.TestCase):
         for deed in [("turn", 0, 1), ("turn", 1, 1), ("turn", 0, 5)]:
             book.do(deed)
         book.back()
-        for thing in odd_things() + [("turn", 2, 1), ["turn", 0, 1], ("add", "a", ["wish", 0, 0, 0, 1]), ("beat", True)]:
+        for thing in odd_things() + [("turn", 2, 1), ["turn", 0, 1], ("add", "a", ["wish", 0, 0, 0, 1]),
+                                     ("beat", True)]:
             for at in range(3):
                 self.assertEqual(raised(lambda: book.insert(at, thing)), (Broken, at))
         self.assertEqual([book.log(), book.standing], [[("turn", 0, 1), ("turn", 1, 1)], (1, 1)])
@@ -466,8 +481,10 @@ class Insert(unittest.TestCase):
                  ("beat", 4), ("remove", "a"), ("turn", 0, 30), ("add", "a", ("stop", 0, 35, 36)), ("beat", 1)]
         cases = [(0, ("turn", 0, 9), 2), (0, ("turn", 0, -2), 2), (0, ("add", "a", ("wish", 0, 0, 0, 1)), 2),
                  (0, ("add", "b", ("wish", 0, 0, 0, 1)), 3), (0, ("remove", "a"), 0), (1, ("turn", 0, 9), 2),
-                 (2, ("remove", "a"), 6), (3, ("remove", "b"), 4), (4, ("move", "a", 4), 4), (3, ("move", "b", MOST - 6), 4),
-                 (5, ("turn", 0, 2), 8), (6, ("add", "a", ("wish", 0, 0, 0, 1)), 8), (9, ("add", "a", ("wish", 0, 0, 0, 1)), 9),
+                 (2, ("remove", "a"), 6), (3, ("remove", "b"), 4), (4, ("move", "a", 4), 4),
+                 (3, ("move", "b", MOST - 6), 4),
+                 (5, ("turn", 0, 2), 8), (6, ("add", "a", ("wish", 0, 0, 0, 1)), 8),
+                 (9, ("add", "a", ("wish", 0, 0, 0, 1)), 9),
                  (4, ("turn", 0, -1), 8), (1, ("add", "c", ("wish", 0, 0, 0, 2)), 8), (9, ("turn", 0, 9), 9)]
         for at, deed, broken in cases:
             with self.subTest(at, deed=deed):
@@ -494,7 +511,8 @@ class Queries(unittest.TestCase):
     def test_sizes(self):
         for size in range(1, 9):
             book = Book(size)
-            self.assertEqual([book.size, book.standing, book.log(), book.terms(), len(book)], [size, (0,) * size, [], [], 0])
+            self.assertEqual([book.size, book.standing, book.log(), book.terms(), len(book)],
+                             [size, (0,) * size, [], [], 0])
             self.assertEqual([book.board(), book.at_rest(), book.left(), book.done(), book.since()],
                              [Board.free(size), True, 0, 0, 0])
         for size in [0, 9, -1, True, False, None, "2", [2], (2,), 10 ** 39, -10 ** 39, {}, *odd_things()]:
@@ -502,7 +520,8 @@ class Queries(unittest.TestCase):
 
     def test_since(self):
         book = Book(1)
-        wanted = [(("turn", 0, 5), 0), (("add", "a", ("wish", 0, 9, 9, 1)), None), (("beat", 2), None), (("beat", 2), 4),
+        wanted = [(("turn", 0, 5), 0), (("add", "a", ("wish", 0, 9, 9, 1)), None), (("beat", 2), None),
+                  (("beat", 2), 4),
                   (("beat", 7), 4), (("turn", 0, -1), None), (("remove", "a"), 7), (("beat", 1), 7),
                   (("add", "b", ("wish", 0, 8, 8, 1)), 7), (("move", "b", 1), None), (("move", "b", -1), 11)]
         for deed, since in wanted:
@@ -552,7 +571,8 @@ class Queries(unittest.TestCase):
             return book
         turn, beat = ("turn", 0, 1), ("beat", 5)
         self.assertEqual([made(1) == made(1), made(1) == made(2), made(2, turn) == made(2, turn)], [True, False, True])
-        self.assertEqual([made(2, turn, beat) == made(2, beat, turn), made(2, turn) == made(2, turn, beat)], [False, False])
+        self.assertEqual([made(2, turn, beat) == made(2, beat, turn), made(2, turn) == made(2, turn, beat)],
+                         [False, False])
         self.assertEqual([made(2, turn) == made(3, turn), made(2, turn) != made(2, turn)], [False, False])
         undone = made(2, turn, beat)
         undone.back()
@@ -600,7 +620,8 @@ class SameTermsAndStanding(unittest.TestCase):
     def answers(self, book):
         """Return what a book answers about its board."""
         board, standing = book.board(), book.standing
-        return [board, standing, book.terms(), book.at_rest(), book.left(), strain(board), bounds(board), held(board, 0, 1),
+        return [board, standing, book.terms(), book.at_rest(), book.left(), strain(board), bounds(board),
+                held(board, 0, 1),
                 rest(board, standing), book.size]
 
     def test_other_ways(self):

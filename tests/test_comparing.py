@@ -68,7 +68,8 @@ def changed(chance, size, terms):
     term = terms[at] if terms else ("wish", 0, 0, 0, 1)
     low, high, force = term[-3:]
     other = chance.choice([
-        term[:-3] + (low, high, force % 30 + 1), term[:-3] + (low, low, force), term[:-3] + (max(low - 1, -MOST), high, force),
+        term[:-3] + (low, high, force % 30 + 1), term[:-3] + (low, low, force),
+        term[:-3] + (max(low - 1, -MOST), high, force),
         term[:-3] + (low, min(high + 1, MOST), force), term_of(chance, size)])
     return chance.choice([terms[:at] + terms[at + 1:], terms[:at] + [other] + terms[at + 1:],
                           (terms + [term_of(chance, size)])[-24:]])
@@ -90,7 +91,8 @@ class HasStops(unittest.TestCase):
     def test_least_index(self):
         wish, tie, stop, bar = ("wish", 0, 0, 0, 1), ("tie", 0, 1, 0, 0, 1), ("stop", 0, 0, 9), ("bar", 0, 1, 0, 9)
         free = Board(2, [wish, tie])
-        for terms, at in [([stop], 0), ([bar], 0), ([wish, stop], 1), ([wish, tie, bar, stop], 2), ([tie, stop, bar], 1),
+        for terms, at in [([stop], 0), ([bar], 0), ([wish, stop], 1), ([wish, tie, bar, stop], 2),
+                          ([tie, stop, bar], 1),
                           ([wish] * 23 + [bar], 23), ([stop, ("stop", 0, 20, 30)], 0)]:
             board = Board(2, terms)
             self.check(lambda: kinks(board), at)
@@ -114,7 +116,8 @@ class Kinks(unittest.TestCase):
 
     def test_given_boards(self):
         for terms, wanted in [
-                ([], []), ([("wish", 0, 3, 3, 7)], [(0, -1, 3, 14)]), ([("wish", 2, -3, 3, 7)], [(2, -1, -3, 7), (2, -1, 3, 7)]),
+                ([], []), ([("wish", 0, 3, 3, 7)], [(0, -1, 3, 14)]), ([("wish", 2, -3, 3, 7)],
+                        [(2, -1, -3, 7), (2, -1, 3, 7)]),
                 ([("tie", 2, 0, 1, 5, 2)], [(0, 2, -5, 2), (0, 2, -1, 2)]),
                 ([("tie", 0, 2, -5, -1, 2)], [(0, 2, -5, 2), (0, 2, -1, 2)]),
                 ([("tie", 2, 0, 1, 5, 2), ("tie", 0, 2, -5, 0, 1)], [(0, 2, -5, 3), (0, 2, -1, 2), (0, 2, 0, 1)]),
@@ -168,6 +171,22 @@ class Unlike(unittest.TestCase):
             alike.append(self.check(size, terms, others))
         self.assertGreater(alike.count(False), 400)
         self.assertGreater(alike.count(True), 5)
+
+    def test_boards_that_have_little_in_common(self):
+        # Where terms are few and ends close together, changes of gains at one place may be made up for at another one.
+        chance = random.Random(866)
+        for at in range(1500):
+            size = at % 3 + 1
+            one, other = [[self.narrow(chance, size) for _ in range(chance.randint(0, 3))] for _ in range(2)]
+            self.check(size, one, other)
+
+    def narrow(self, chance, size):
+        """Return a term with ends that are almost always the same, and a force of 1."""
+        place = chance.choice([0, 1, 1, 2, -1])
+        high = chance.choice([place, place, place + 1])
+        if size == 1 or chance.random() < 0.5:
+            return ("wish", chance.randrange(size), place, high, 1)
+        return ("tie", *chance.sample(range(size), 2), place, high, 1)
 
     def test_small_boards_by_a_search_over_standings_and_steps(self):
         chance = random.Random(867)

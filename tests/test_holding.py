@@ -187,7 +187,8 @@ class Held(unittest.TestCase):
         chance = random.Random(814)
         nowhere = 0
         for size, terms, _ in great_boards(815, 80) + [
-                (8, *terms_made(chance, 8, 24, 10 ** 17, words=words)) for words in [FORCED] * 8 + [("tie", "wish", "bar")]]:
+                (8, *terms_made(chance, 8, 24, 10 ** 17, words=words)) for words in [FORCED] * 8 + [("tie", "wish",
+                        "bar")]]:
             board = Board(size, terms)
             dial = chance.randrange(size)
             self.assertEqual(held(board, dial, 0), dial_range(board, dial))
@@ -238,7 +239,8 @@ class AreHeld(unittest.TestCase):
         """Check the answer against the definition; return it."""
         before = repr(thing)
         wanted = shows(board, standing, dial, force, thing)
-        self.assertIs(are_held(board, standing, dial, force, thing), wanted, (board, standing, dial, force, before[:200]))
+        self.assertIs(are_held(board, standing, dial, force, thing), wanted,
+                      (board, standing, dial, force, before[:200]))
         self.assertEqual(repr(thing), before)
         return wanted
 
@@ -362,7 +364,8 @@ class NoStanding(unittest.TestCase):
         boards = [Board(1, [("stop", 0, 0, 1), ("stop", 0, 2, 3)]),
                   Board(2, [("wish", 0, 0, 0, 1), ("bar", 0, 1, 2, 5), ("stop", 0, 0, 1), ("stop", 1, 0, 9)])]
         for board in boards:
-            for call in [lambda: least_at(board, 0, 0), lambda: least_at(board, 0, 10 ** 39), lambda: forces(board, 0, 1),
+            for call in [lambda: least_at(board, 0, 0), lambda: least_at(board, 0, 10 ** 39),
+                         lambda: forces(board, 0, 1),
                          lambda: forces(board, 0, -MOST), lambda: held(board, 0, 0), lambda: held(board, 0, 1000)]:
                 with self.assertRaises(NoneAllowed) as caught:
                     call()

@@ -4,7 +4,8 @@ import inspect
 import unittest
 
 from mostpulled import (
-    alone, balance, beats, boards, books, comparing, desk, errors, gains, holding, kinds, least, listing, moving, notation,
+    alone, balance, beats, boards, books, comparing, desk, errors, gains, holding, kinds, least, listing, moving,
+    notation,
     plans, starts, steps, terms,
 )
 

@@ -9,7 +9,8 @@ from mostpulled.boards import Board
 from mostpulled.errors import NoneAllowed
 from mostpulled.least import bounds, chain, dial_range, gap_range, is_best, is_chain, paper, strain
 from things import (
-    FORCED, MOST, all_fit, balanced, best_in_box, best_of_all, box, ends, fits, great_boards, is_whole, left, odd_things,
+    FORCED, MOST, all_fit, balanced, best_in_box, best_of_all, box, ends, fits, great_boards, is_whole, left,
+    odd_things,
     small_boards, standings_near, worth,
 )
 from things import strain as plain_strain
@@ -106,7 +107,8 @@ def all_calls(board, standing):
 class NoStanding(unittest.TestCase):
     def test_all_functions(self):
         boards = [
-            Board(1, [("stop", 0, 0, 1), ("stop", 0, 2, 3)]), Board(1, [("stop", 0, MOST, MOST), ("stop", 0, 0, MOST - 1)]),
+            Board(1, [("stop", 0, 0, 1), ("stop", 0, 2, 3)]), Board(1, [("stop", 0, MOST, MOST),
+                    ("stop", 0, 0, MOST - 1)]),
             Board(2, [('bar', 0, 1, 2, 5), ('stop', 0, 0, 1), ('stop', 1, 0, 9)]),
             Board(3, [("wish", 0, 0, 0, 1), ("bar", 0, 1, 1, 1), ("bar", 1, 2, 1, 1), ("bar", 2, 0, -1, 9)]),
             Board(8, [("bar", dial, (dial + 1) % 8, 1, MOST) for dial in range(8)] * 3),
@@ -313,12 +315,14 @@ class Chains(unittest.TestCase):
             (index, 2), (index, None), ([index], way), (-1, way), (len(held), way), (10 ** 39, way), "link", ()])
         return chance.choice([
             (value + chance.choice([1, -1, MOST]), held, links), (True, held, links), (None, held, links),
-            (str(value), held, links), ([value], held, links), [value, held, links], (value, held), (value, links, held),
+            (str(value), held, links), ([value], held, links), [value, held, links], (value, held),
+            (value, links, held),
             (value, held, links, None), (value, tuple(held), links), (value, held, tuple(links)), (value, held, []),
             (value, held, links[:-1]), (value, held, links[1:]), (value, held, links + links[-1:]),
             (value, held, links + [(index, way), (index, -way)]), (value, held, [(index, way), (index, -way)] + links),
             (value, held, links[:link] + [(index, way), (index, -way)] + links[link:]), (value, held, links[::-1]),
-            (value, held[:-1], links), (value, held + [0], links), (value, [0] * len(held), links), (value, None, links),
+            (value, held[:-1], links), (value, held + [0], links), (value, [0] * len(held), links),
+            (value, None, links),
             (value, held, None), (value, held, {0: links}), (value, held, [links]), (value, [held], links),
             *[(value, held, links[:link] + [other] + links[link + 1:])] * 8,
             *[(value, held[:at] + [pull] + held[at + 1:], links)] * 4])

@@ -246,7 +246,8 @@ class Settled(unittest.TestCase):
             for standing in [(0, 5), (11, 8)]:
                 with self.assertRaises(NotAllowed) as caught:
                     settled(board, standing, moves)
-                self.assertEqual([type(caught.exception), caught.exception.at], [NotAllowed, left(board.terms(), standing)])
+                self.assertEqual([type(caught.exception), caught.exception.at],
+                                 [NotAllowed, left(board.terms(), standing)])
 
     def test_lists_that_were_returned_are_changed(self):
         moves = [(0, 4), (1, -3)]

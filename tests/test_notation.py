@@ -14,8 +14,10 @@ from things import MOST, odd_things, raised, terms_made
 LONG = int("1234567890" * 4)
 # Integers that have no text: each is written in a wrong way, or has more than 40 digits.
 NO_INTEGERS = [
-    "+1", "01", "00", "-0", "-01", "--1", "-", "", " 1", "1 ", "1\n", "\n1", "1_0", "1.0", "1e3", "0x1", "a", "None", "True",
-    "1" * 41, "-" + "1" * 41, "9" * 5000, "-" + "9" * 5000, "0" * 41, "1-", "- 1", "1,", "~", "1\\n", "'1'", "(1)", "+", "+0",
+    "+1", "01", "00", "-0", "-01", "--1", "-", "", " 1", "1 ", "1\n", "\n1", "1_0", "1.0", "1e3", "0x1", "a", "None",
+    "True",
+    "1" * 41, "-" + "1" * 41, "9" * 5000, "-" + "9" * 5000, "0" * 41, "1-", "- 1", "1,", "~", "1\\n", "'1'", "(1)",
+    "+", "+0",
 ]
 
 
@@ -38,8 +40,10 @@ DEEDS = [
     (("add", "low", ("wish", 0, 0, 0, 1)), "add low wish,0,0,0,1"), (("move", "low", -3), "move low -3"),
     (("turn", 1, 10), "turn 1 10"), (("beat", 4), "beat 4"), (("remove", "low"), "remove low"), (("beat", 0), "beat 0"),
     (("beat", 10 ** 21), "beat 1000000000000000000000"), (("turn", 0, -MOST), "turn 0 -1000000000000000000"),
-    (("add", "abcdefgh", ("bar", 1, 0, -5, -5)), "add abcdefgh bar,1,0,-5,-5"), (("add", "add", ("stop", 0, 1, 2)), "add add stop,0,1,2"),
-    (("remove", "beat"), "remove beat"), (("move", "z", LONG), f"move z {LONG}"), (("move", "z", -LONG), f"move z -{LONG}"),
+    (("add", "abcdefgh", ("bar", 1, 0, -5, -5)), "add abcdefgh bar,1,0,-5,-5"),
+    (("add", "add", ("stop", 0, 1, 2)), "add add stop,0,1,2"),
+    (("remove", "beat"), "remove beat"), (("move", "z", LONG), f"move z {LONG}"),
+    (("move", "z", -LONG), f"move z -{LONG}"),
     (("add", "t", ("tie", 0, 1, -9, 9, 30)), "add t tie,0,1,-9,9,30"), (("move", "z", 0), "move z 0"),
 ]
 
@@ -108,11 +112,16 @@ class Texts(unittest.TestCase):
 
     def test_no_terms(self):
         for text in [
-                "", ",", "wish", "wish,", ",wish,0,0,0,1", "wish,0,0,0", "wish,0,0,0,1,", "wish,0,0,0,1,1", "wish,,0,0,0,1",
-                "Wish,0,0,0,1", "wish,0,0,0,0", "wish,0,0,0,31", "wish,2,0,0,1", "wish,-1,0,0,1", "wish,0,1,0,1", "hope,0,0,0,1",
-                "wish 0 0 0 1", "wish,0,0,0,1\n", "\nwish,0,0,0,1", " wish,0,0,0,1", "wish,0,0,0,1 ", "wish, 0,0,0,1", "('wish', 0, 0, 0, 1)",
-                "wish,0,0,1000000000000000001,1", "wish,0,-1000000000000000001,0,1", "tie,0,0,0,0,1", "tie,0,2,0,0,1", "tie,2,0,0,0,1",
-                "tie,0,1,0,0", "stop,0,0,0,1", "stop,0,5", "bar,0,1,0,0,1", "bar,1,1,0,0", "bar,0,1,1,0", "0,0,0,0,1", "stop;0;0;0",
+                "", ",", "wish", "wish,", ",wish,0,0,0,1", "wish,0,0,0", "wish,0,0,0,1,", "wish,0,0,0,1,1",
+                "wish,,0,0,0,1",
+                "Wish,0,0,0,1", "wish,0,0,0,0", "wish,0,0,0,31", "wish,2,0,0,1", "wish,-1,0,0,1", "wish,0,1,0,1",
+                "hope,0,0,0,1",
+                "wish 0 0 0 1", "wish,0,0,0,1\n", "\nwish,0,0,0,1", " wish,0,0,0,1", "wish,0,0,0,1 ", "wish, 0,0,0,1",
+                "('wish', 0, 0, 0, 1)",
+                "wish,0,0,1000000000000000001,1", "wish,0,-1000000000000000001,0,1", "tie,0,0,0,0,1", "tie,0,2,0,0,1",
+                "tie,2,0,0,0,1",
+                "tie,0,1,0,0", "stop,0,0,0,1", "stop,0,5", "bar,0,1,0,0,1", "bar,1,1,0,0", "bar,0,1,1,0", "0,0,0,0,1",
+                "stop;0;0;0",
                 "wish,0,0,0,1,wish,0,0,0,1", "wish,0,0,0,1\nwish,0,0,0,1", "add a wish,0,0,0,1", "stop,0,0,0,"]:
             self.refused(read_term, text, 2)
         self.refused(read_term, "wish,1,0,0,1", 1)
@@ -120,22 +129,33 @@ class Texts(unittest.TestCase):
         self.assertEqual(read_term("bar,0,7,0,0", 8), ("bar", 0, 7, 0, 0))
 
     def test_no_standings(self):
-        for text, size in [("", 1), ("0,0", 1), ("0", 2), ("0,", 1), ("0,", 2), (",0", 2), (",", 2), ("0,,0", 2), ("0 0", 2), ("0, 0", 2),
-                           ("(0,)", 1), ("0,0,0", 2), ("0,0\n", 2), ("\n0,0", 2), ("0;0", 2), ("0,\n0", 2), ("0,0,", 2), ("0" * 2, 2)]:
+        for text, size in [("", 1), ("0,0", 1), ("0", 2), ("0,", 1), ("0,", 2), (",0", 2), (",", 2), ("0,,0", 2),
+                           ("0 0", 2), ("0, 0", 2),
+                           ("(0,)", 1), ("0,0,0", 2), ("0,0\n", 2), ("\n0,0", 2), ("0;0", 2), ("0,\n0", 2),
+                           ("0,0,", 2), ("0" * 2, 2)]:
             self.refused(read_standing, text, size)
 
     def test_no_deeds(self):
         for text in [
-                "", " ", "add", "add ", "add a", "add a ", "add  a wish,0,0,0,1", "add a  wish,0,0,0,1", " add a wish,0,0,0,1",
-                "add a wish,0,0,0,1 ", "add a wish,0,0,0,1\n", "add a\nwish,0,0,0,1", "\nadd a wish,0,0,0,1", "add a wish,0,0,0,1 1",
-                "add A wish,0,0,0,1", "add abcdefghi wish,0,0,0,1", "add a1 wish,0,0,0,1", "add 1 wish,0,0,0,1", "add a, wish,0,0,0,1",
-                "add wish,0,0,0,1 a", "add wish,0,0,0,1", "Add a wish,0,0,0,1", "add a wish,0,0,0,31", "add a wish,2,0,0,1", "add a b",
-                "add a wish 0 0 0 1", "add,a,wish,0,0,0,1", "remove", "remove ", "remove A", "remove a b", "remove a ", "remove  a",
-                "remove abcdefghi", "remove 0", "remove a\n", "Remove a", "move a", "move a ", "move a 1 ", "move a  1", "move a 1 1",
-                "move 1 a", "move 1 1", "move A 1", "move a b", "move  1", "turn 0", "turn 0 ", "turn 2 0", "turn -1 0", "turn 0 0 0",
+                "", " ", "add", "add ", "add a", "add a ", "add  a wish,0,0,0,1", "add a  wish,0,0,0,1",
+                " add a wish,0,0,0,1",
+                "add a wish,0,0,0,1 ", "add a wish,0,0,0,1\n", "add a\nwish,0,0,0,1", "\nadd a wish,0,0,0,1",
+                "add a wish,0,0,0,1 1",
+                "add A wish,0,0,0,1", "add abcdefghi wish,0,0,0,1", "add a1 wish,0,0,0,1", "add 1 wish,0,0,0,1",
+                "add a, wish,0,0,0,1",
+                "add wish,0,0,0,1 a", "add wish,0,0,0,1", "Add a wish,0,0,0,1", "add a wish,0,0,0,31",
+                "add a wish,2,0,0,1", "add a b",
+                "add a wish 0 0 0 1", "add,a,wish,0,0,0,1", "remove", "remove ", "remove A", "remove a b", "remove a ",
+                "remove  a",
+                "remove abcdefghi", "remove 0", "remove a\n", "Remove a", "move a", "move a ", "move a 1 ",
+                "move a  1", "move a 1 1",
+                "move 1 a", "move 1 1", "move A 1", "move a b", "move  1", "turn 0", "turn 0 ", "turn 2 0",
+                "turn -1 0", "turn 0 0 0",
                 "turn a 0", "turn 0 a", "turn  0 0", "turn 0  0", "turn 0 0 ", "turn 0 1000000000000000001",
-                "turn 0 -1000000000000000001", "turn", "beat", "beat ", "beat -1", "beat 1000000000000000000001", "beat 1 1", "beat  1",
-                "beat 1 ", " beat 1", "beat 1\n", "beat a", "Beat 1", "beat,1", "beat\t1", "beats 1", "back", "again", "log", "insert 0 beat 1",
+                "turn 0 -1000000000000000001", "turn", "beat", "beat ", "beat -1", "beat 1000000000000000000001",
+                "beat 1 1", "beat  1",
+                "beat 1 ", " beat 1", "beat 1\n", "beat a", "Beat 1", "beat,1", "beat\t1", "beats 1", "back", "again",
+                "log", "insert 0 beat 1",
                 "('beat', 1)", "beat 1\nbeat 1", "beat 1; beat 1", "turn 0,1 3"]:
             self.refused(read_deed, text, 2)
         self.refused(read_deed, "turn 1 0", 1)
@@ -143,7 +163,8 @@ class Texts(unittest.TestCase):
 
     def test_values_that_are_no_strings(self):
         things = [thing for thing in odd_things() if not isinstance(thing, str)]
-        for thing in things + [("wish", 0, 0, 0, 1), (0,), [0], 0, ("beat", 1), b"beat 1", b"0", b"wish,0,0,0,1", ["0"], ("0",)]:
+        for thing in things + [("wish", 0, 0, 0, 1), (0,), [0], 0, ("beat", 1), b"beat 1", b"0", b"wish,0,0,0,1",
+                               ["0"], ("0",)]:
             for read in (read_term, read_standing, read_deed, read_log):
                 self.refused(read, thing, 1)
         for thing in odd_things():
@@ -161,11 +182,12 @@ class Logs(unittest.TestCase):
         return book
 
     def test_written_and_read(self):
-        deeds = [("add", "low", ("wish", 0, 0, 0, 1)), ("add", "tie", ("tie", 0, 1, 0, 0, 3)), ("turn", 1, 10), ("beat", 4),
+        deeds = [("add", "low", ("wish", 0, 0, 0, 1)), ("add", "tie", ("tie", 0, 1, 0, 0, 3)), ("turn", 1, 10),
+                 ("beat", 4),
                  ("move", "low", -3), ("beat", 10 ** 21), ("remove", "low")]
         book = self.made(2, *deeds)
-        text = ("add low wish,0,0,0,1\nadd tie tie,0,1,0,0,3\nturn 1 10\nbeat 4\nmove low -3\nbeat 1000000000000000000000\n"
-                "remove low\n")
+        text = ("add low wish,0,0,0,1\nadd tie tie,0,1,0,0,3\nturn 1 10\nbeat 4\nmove low -3\n"
+                "beat 1000000000000000000000\nremove low\n")
         self.assertEqual(show_log(book), text)
         read = read_log(text, 2)
         self.assertEqual([type(read), read, read.log(), read.standing, read.done()],
@@ -190,14 +212,20 @@ class Logs(unittest.TestCase):
 
     def test_broken(self):
         for text, at in [
-                ("\n", 0), ("\n\n", 0), ("beat 1", 0), ("beat 1\nbeat 1", 1), ("beat 1\n\n", 1), ("\nbeat 1\n", 0), (" ", 0), (" \n", 0),
-                ("beat 1\n\nbeat 1\n", 1), ("beat 1\nbeat 1\n ", 2), ("beat 1\nbeat 1\nx", 2), ("x", 0), ("beat 1 \n", 0),
+                ("\n", 0), ("\n\n", 0), ("beat 1", 0), ("beat 1\nbeat 1", 1), ("beat 1\n\n", 1), ("\nbeat 1\n", 0),
+                (" ", 0), (" \n", 0),
+                ("beat 1\n\nbeat 1\n", 1), ("beat 1\nbeat 1\n ", 2), ("beat 1\nbeat 1\nx", 2), ("x", 0),
+                ("beat 1 \n", 0),
                 ("beat 1\nbeat -1\nx", 1), ("turn 0 1\nturn 1 1\n", 1), ("remove a\n", 0), ("beat 1\nremove a\n", 1),
-                ("add a wish,0,0,0,1\nadd a wish,0,0,0,1\n", 1), ("add a stop,0,1,2\n", 0), ("turn 0 1\nadd a stop,0,1,2\nturn 0 2\n", 2),
-                ("add a wish,0,0,0,1\nmove a 1000000000000000001\n", 1), ("add a wish,0,0,0,1\nmove a 1\nmove b 1\nx", 2),
+                ("add a wish,0,0,0,1\nadd a wish,0,0,0,1\n", 1), ("add a stop,0,1,2\n", 0),
+                ("turn 0 1\nadd a stop,0,1,2\nturn 0 2\n", 2),
+                ("add a wish,0,0,0,1\nmove a 1000000000000000001\n", 1),
+                ("add a wish,0,0,0,1\nmove a 1\nmove b 1\nx", 2),
                 ("beat 0\n" * 100 + "beat 0\n", 100), ("beat 0\n" * 150, 100), ("beat 0\n" * 100 + "x\n", 100),
-                ("beat 0\n" * 100 + "\n", 100), ("beat 0\n" * 100 + "beat 0", 100), ("beat 0\n" * 99 + "remove a\n", 99),
-                ("beat 0\n" * 3 + "beat 0\n".replace("\n", "\\n"), 3), ("beat 0;beat 0\n", 0), ("x\n" * 200, 0), ("-\n", 0), ("log\n", 0),
+                ("beat 0\n" * 100 + "\n", 100), ("beat 0\n" * 100 + "beat 0", 100),
+                ("beat 0\n" * 99 + "remove a\n", 99),
+                ("beat 0\n" * 3 + "beat 0\n".replace("\n", "\\n"), 3), ("beat 0;beat 0\n", 0), ("x\n" * 200, 0),
+                ("-\n", 0), ("log\n", 0),
                 ("back\n", 0), ("turn 0 1\nback\n", 1), ("beat 0\n" + "9" * 9000, 1), ("beat " + "9" * 9000 + "\n", 0)]:
             self.assertEqual(raised(lambda: read_log(text, 1)), (Broken, at), text[:60])
         self.assertEqual(len(read_log("beat 0\n" * 100, 1)), 100)

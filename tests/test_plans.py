@@ -251,9 +251,11 @@ class Shortest(unittest.TestCase):
         chance = random.Random(64)
         for at in range(90):
             size = at % 3 + 1
-            terms, inner = terms_made(chance, size, chance.randint(1, 6), 3, words=("stop", "bar", "wish", "tie", "bar"))
+            terms, inner = terms_made(chance, size, chance.randint(1, 6), 3,
+                                      words=("stop", "bar", "wish", "tie", "bar"))
             board, standings = Board(size, terms), box(size, 6)
-            found = [standing for standing in standings_near(chance, terms, inner, 2, 20) if max(map(abs, standing)) < 6]
+            found = [standing for standing in standings_near(chance, terms, inner, 2,
+                                                             20) if max(map(abs, standing)) < 6]
             if found:
                 one, other = chance.choice(found), chance.choice(found)
                 many = self.check(terms, one, other, shortest(board, one, other))
@@ -271,7 +273,8 @@ class Shortest(unittest.TestCase):
         for at in range(160):
             size, span = at % 8 + 1, chance.choice([2, 9, 10 ** 17])
             words = chance.choice([WORDS, WORDS + FORCED * 3, FORCED])
-            terms, inner = terms_made(chance, size, chance.choice([3, 8, 24]), span, chance.choice([0, MOST - span]), words)
+            terms, inner = terms_made(chance, size, chance.choice([3, 8, 24]), span, chance.choice([0, MOST - span]),
+                                      words)
             board = Board(size, terms)
             for standing in standings_near(chance, terms, inner, span, 3):
                 plan = to_best(board, standing)

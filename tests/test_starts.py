@@ -48,7 +48,8 @@ class Some(unittest.TestCase):
     def test_given_boards(self):
         wanted = [
             (1, [], "standing"), (8, [], "standing"), (1, [("stop", 0, 5, 5)], "standing"),
-            (1, [("stop", 0, 5, 5), ("stop", 0, 6, 9)], "never"), (1, [("stop", 0, 5, 6), ("stop", 0, 6, 9)], "standing"),
+            (1, [("stop", 0, 5, 5), ("stop", 0, 6, 9)], "never"), (1, [("stop", 0, 5, 6), ("stop", 0, 6, 9)],
+                                                                   "standing"),
             (2, [("bar", 0, 1, 5, 6), ("bar", 1, 0, -6, -5)], "standing"),
             (2, [("bar", 0, 1, 5, 6), ("bar", 1, 0, 5, 6)], "never"),
             (2, [("bar", 0, 1, 5, 6), ("bar", 1, 0, -4, 4)], "never"),
@@ -97,7 +98,8 @@ class Some(unittest.TestCase):
         for at in range(300):
             size, span = at % 8 + 1, chance.choice([1, 9, 10 ** 17])
             middle = chance.choice([0, MOST - span, span - MOST])
-            terms, _ = terms_made(chance, size, 24, span, middle, ("stop", "bar", "bar", chance.choice(["wish", "bar"])))
+            terms, _ = terms_made(chance, size, 24, span, middle, ("stop", "bar", "bar",
+                                                                   chance.choice(["wish", "bar"])))
             self.assertEqual(self.check(size, terms), "standing")
 
     def test_great_boards_that_may_contradict_each_other(self):
@@ -106,7 +108,8 @@ class Some(unittest.TestCase):
         for at in range(400):
             size, span = at % 8 + 1, chance.choice([1, 9, 10 ** 17])
             middle = chance.choice([0, MOST - span, span - MOST])
-            terms, _ = terms_made(chance, size, chance.choice([6, 12, 22]), span, middle, ("stop", "bar", "bar", "wish"))
+            terms, _ = terms_made(chance, size, chance.choice([6, 12, 22]), span, middle,
+                                  ("stop", "bar", "bar", "wish"))
             dials = chance.sample(range(size), min(size, 2))
             term = (("bar" if len(dials) == 2 else "stop"), *dials)
             low = chance.choice([-1, 0, 1]) * chance.randint(0, 2 * span)

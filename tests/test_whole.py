@@ -4,7 +4,8 @@ import random
 import unittest
 
 from mostpulled import (
-    alone, balance, beats, comparing, desk, gains, holding, kinds, least, listing, moving, notation, plans, starts, steps, terms,
+    alone, balance, beats, comparing, desk, gains, holding, kinds, least, listing, moving, notation, plans, starts,
+    steps, terms,
 )
 from mostpulled.boards import Board
 from mostpulled.books import Book
@@ -15,7 +16,8 @@ from things import MOST, WORDS, FORCED, all_steps, far, great_boards, small_boar
 def some_boards(seed, many):
     """Return (size, terms, standing): small and great boards, with a standing that may be one that is not allowed."""
     chance = random.Random(seed)
-    found = [(size, rows, tuple(chance.randint(-2, 2) for _ in range(size))) for size, rows in small_boards(seed, many, 4)]
+    found = [(size, rows, tuple(chance.randint(-2, 2) for _ in range(size))) for size,
+             rows in small_boards(seed, many, 4)]
     found += [(size, rows, tuple(chance.randint(-2, 2) for _ in range(size)))
               for size, rows in small_boards(seed + 1, many // 2, 4, FORCED)]
     return found + great_boards(seed + 2, many // 2)
@@ -28,12 +30,14 @@ def pair_calls(board, standing, other):
         (board.left, standing), (board.strain, standing), (gains.gain, board, standing, 1, [0]),
         (gains.gain, board, standing, -1, list(range(board.size))), (steps.best_step, board, standing),
         (steps.best_steps, board, standing), (balance.pulls, board, standing),
-        (balance.are_pulls, board, standing, [0] * len(board)), (beats.beat, board, standing), (all_runs, board, standing),
+        (balance.are_pulls, board, standing, [0] * len(board)), (beats.beat, board, standing),
+        (all_runs, board, standing),
         (beats.run, board, standing, 3), (beats.rest, board, standing), (beats.trace, board, standing, 7),
         (plans.apart, standing, other), (plans.exchange, standing, other, [1, 5, 2]),
         (plans.follow, board, standing, [(1, [0], 2), (-1, [0], 2)]), (plans.shortest, board, standing, other),
         (plans.to_best, board, standing), (least.is_best, board, standing), (listing.first_best, board, standing),
-        (holding.are_held, board, standing, 0, 1, [0] * len(board)), (moving.settled, board, standing, [(at, 1) for at in wishes][:3]),
+        (holding.are_held, board, standing, 0, 1, [0] * len(board)), (moving.settled, board, standing,
+                                                                      [(at, 1) for at in wishes][:3]),
     ]
     return calls + [(moving.after, board, standing, at, -2) for at in range(len(board))[:3]]
 
@@ -49,17 +53,23 @@ def board_calls(board, other):
     calls = [
         (starts.some, board), (starts.is_never, board, [0] * len(board)), (least.strain, board), (least.paper, board),
         (least.bounds, board), (least.dial_range, board, last), (least.chain, board, last, None), (all_best, board, 60),
-        (listing.all_best, board), (holding.least_at, board, 0, 1), (holding.forces, board, last, 0), (holding.held, board, 0, 2),
-        (holding.held, board, last, -1), (comparing.kinks, board), (comparing.unlike, board, other), (comparing.unlike, other, board),
-        (alone.corners, board, 0), (balance.is_balanced, board, [0] * len(board)), (balance.worth, board, [1] * len(board)),
-        (board.terms,), (board.mirrored,), (board.__len__,), (board.__repr__,), (least.is_chain, board, 0, None, (0, [], [])),
+        (listing.all_best, board), (holding.least_at, board, 0, 1), (holding.forces, board, last, 0),
+        (holding.held, board, 0, 2),
+        (holding.held, board, last, -1), (comparing.kinks, board), (comparing.unlike, board, other),
+        (comparing.unlike, other, board),
+        (alone.corners, board, 0), (balance.is_balanced, board, [0] * len(board)),
+        (balance.worth, board, [1] * len(board)),
+        (board.terms,), (board.mirrored,), (board.__len__,), (board.__repr__,),
+        (least.is_chain, board, 0, None, (0, [], [])),
         (Board, board.size, board.terms()), (Board.free, board.size),
     ]
     if last > 0:
         calls += [(least.gap_range, board, 0, last), (least.chain, board, 0, last)]
     for at, term in list(enumerate(board.terms()))[:2]:
-        calls += [(board.without, at), (terms.mirrored, term), (terms.distance, term, 1), (terms.fitting, term, term[-2 if term[0] in FORCED else -1]),
-                  (kinds.is_term, term, board.size), (notation.show_term, term), (notation.read_term, notation.show_term(term), board.size)]
+        calls += [(board.without, at), (terms.mirrored, term), (terms.distance, term, 1),
+                  (terms.fitting, term, term[-2 if term[0] in FORCED else -1]),
+                  (kinds.is_term, term, board.size), (notation.show_term, term),
+                  (notation.read_term, notation.show_term(term), board.size)]
     return calls
 
 
@@ -80,17 +90,20 @@ def book_calls(board, standing):
         except PullError:
             pass
     text = notation.show_log(book)
-    calls = [(book.log,), (book.terms,), (book.board,), (book.at_rest,), (book.left,), (book.done,), (book.since,), (book.copied,),
+    calls = [(book.log,), (book.terms,), (book.board,), (book.at_rest,), (book.left,), (book.done,), (book.since,),
+             (book.copied,),
              (book.past, 1), (book.__len__,), (notation.show_log, book), (notation.read_log, text, board.size),
              (notation.read_deed, "turn 0 5", board.size), (notation.show_standing, standing)]
-    lines = ["standing", "strain", "left", "done", "terms", "log", "next", "runs", "least", "range 0", "hold 0 1", "beat 9", "no"]
+    lines = ["standing", "strain", "left", "done", "terms", "log", "next", "runs", "least", "range 0", "hold 0 1",
+             "beat 9", "no"]
     return calls + [(desk.answered, board.size, text, line) for line in lines]
 
 
 def shown(thing):
     """Return a text of what a call returned; of a Book all that it answers."""
     if isinstance(thing, Book):
-        return repr([thing.size, thing.standing, thing.log(), thing.terms(), thing.board(), thing.since(), thing.done()])
+        return repr([thing.size, thing.standing, thing.log(), thing.terms(), thing.board(), thing.since(),
+                     thing.done()])
     return repr(thing)
 
 
@@ -168,10 +181,12 @@ class Together(unittest.TestCase):
             held = least.paper(board)
             for standing in standings_near(chance, rows, inner, 3, 3):
                 many, best = beats.rest(board, standing)
-                self.assertEqual([many, sum(times for _, _, times in plans.to_best(board, standing))], [far(standing, best)] * 2)
+                self.assertEqual([many, sum(times for _, _, times in plans.to_best(board, standing))],
+                                 [far(standing, best)] * 2)
                 self.assertTrue(least.is_best(board, best) and balance.are_pulls(board, best, held))
                 self.assertEqual(board.strain(best), balance.worth(board, held))
-                self.assertEqual([least.is_best(board, standing), balance.pulls(board, standing) is not None], [many == 0] * 2)
+                self.assertEqual([least.is_best(board, standing), balance.pulls(board, standing) is not None],
+                                 [many == 0] * 2)
                 self.assertLessEqual(balance.worth(board, held), board.strain(standing))
                 self.assertGreaterEqual(far(standing, listing.first_best(board, best)), many)
 
